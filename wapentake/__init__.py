@@ -1,0 +1,1 @@
+"""Wapentake: an assembly whose rulings come about by threes."""
