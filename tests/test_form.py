@@ -28,6 +28,11 @@ FORBIDDEN_NAMES = set(
     "register mro elements open input version_info with_traceback add_note attrgetter breakpoint builtins compile"
     " copyright credits delattr dir eval exec exit gc getattr globals hasattr help id importlib license locals"
     " methodcaller os quit setattr super type vars sys format format_map".split())
+# The methods of Python's own texts, lists and dicts that may be called.
+PLAIN_METHODS = set(
+    "append clear copy count endswith extend find get index insert isalnum isalpha isdigit islower isspace isupper"
+    " items join keys ljust lower lstrip partition pop remove replace reverse rfind rjust rpartition rsplit rstrip"
+    " setdefault split splitlines startswith strip update upper values zfill bit_length sort".split())
 
 
 def trees():
@@ -105,6 +110,24 @@ class TestForm(unittest.TestCase):
         for name, node in nodes(ast.ImportFrom):
             for alias in node.names:
                 self.assertIn(alias.name, defined[node.module.partition(".")[2]], name)
+
+    def test_no_two_files_draw_from_one_another(self):
+        drawn = {name[:-3]: set() for name, tree in trees()}
+        for name, node in nodes(ast.ImportFrom):
+            drawn[name[:-3]].add(node.module.partition(".")[2])
+        while drawn:
+            ready = [stem for stem in drawn if not drawn[stem] & set(drawn)]
+            self.assertNotEqual(ready, [], sorted(drawn))
+            for stem in ready:
+                del drawn[stem]
+
+    def test_methods_and_values_are_known(self):
+        methods, values = own_names("method") | PLAIN_METHODS | DUNDER_METHODS, own_names("value")
+        for name, tree in trees():
+            called = [node.func for node in ast.walk(tree) if isinstance(node, ast.Call)]
+            for node in ast.walk(tree):
+                if isinstance(node, ast.Attribute):
+                    self.assertIn(node.attr, methods if node in called else values, f"{name}:{node.lineno}")
 
     def test_no_statement_or_value_outside_the_rules(self):
         for name, node in nodes(*FORBIDDEN_NODES):

@@ -1,28 +1,18 @@
 """Answers, rows, patterns and names: points [1], [5], [6] and the interface's section of wapentake/rows.py."""
 
-import inspect
 import itertools
 import unittest
 
+from reference import FORTY, SIXTY, TableCase, all_patterns, all_rows, two_of_three
 from wapentake import rows
 from wapentake.errors import BadCount, BadSign
 from wapentake.rows import differ, go, is_name, is_pattern, is_row, matches, other
 
-FORTY = 10 ** 39
-SIXTY = 10 ** 60 - 1
 BAD_COUNTS = (0, -1, -2, -12, 13, 14, 100, FORTY, -FORTY, SIXTY, -SIXTY)
 COUNTS = range(1, 13)
 # A great letter, a stroke, a blank, a line end, a figure, and letters that are no answers.
 NO_ANSWERS = ("Y", "N", "-", " ", "\n", "0", "1", "a", "x", "z", "~", "!")
 ALL_SIGNS = [chr(code) for code in range(32, 127) if chr(code) != "%"] + ["\n"]
-
-
-def all_rows(questions):
-    return ["".join(signs) for signs in itertools.product("ny", repeat=questions)]
-
-
-def all_patterns(questions):
-    return ["".join(signs) for signs in itertools.product("ny-", repeat=questions)]
 
 
 def good_text(signs, length):
@@ -34,20 +24,11 @@ def with_one(text, at, sign):
     return text[:at] + sign + text[at + 1:]
 
 
-class TestInterface(unittest.TestCase):
+class TestInterface(TableCase):
     def test_the_arguments_are_called_as_told(self):
-        told = {
-            "other": ["sign"],
-            "is_row": ["row", "questions"],
-            "is_pattern": ["pattern", "questions"],
-            "is_name": ["name"],
-            "go": ["one", "two", "three"],
-            "differ": ["one", "other"],
-            "matches": ["row", "pattern"],
-        }
-        for name, arguments in told.items():
-            with self.subTest(name):
-                self.assertEqual(list(inspect.signature(getattr(rows, name)).parameters), arguments)
+        self.assert_arguments(rows, {
+            "other": "sign", "is_row": "row questions", "is_pattern": "pattern questions", "is_name": "name",
+            "go": "one two three", "differ": "one other", "matches": "row pattern"})
 
 
 class TestOther(unittest.TestCase):
@@ -179,10 +160,6 @@ class TestIsName(unittest.TestCase):
         for text in (" ada", "ada ", "ada\n", "\nada", "a da", " ", "\n"):
             with self.subTest(text):
                 self.assertIs(is_name(text), False)
-
-
-def two_of_three(*signs):
-    return "y" if signs.count("y") >= 2 else "n"
 
 
 class TestGo(unittest.TestCase):

@@ -4,20 +4,12 @@ import inspect
 import itertools
 import unittest
 
+from reference import FORTY, SIXTY, TableCase, bad_texts, filled_with, state
 from wapentake.errors import BadCount, BadRow, BadSign, NoQuestion, NoRow
 from wapentake.table import Table
 
-FORTY = 10 ** 39
-SIXTY = 10 ** 60 - 1
 NO_ANSWERS = ("", "Y", "N", "-", " ", "\n", "0", "yy", "yn", "y ", "y\n", "x")
 SOME_ROWS = ["yyn", "nyy", "yyn", "nnn", "yyn", "nyy", "yny"]
-
-
-def filled_with(questions, rows):
-    table = Table(questions)
-    for row in rows:
-        table.add(row)
-    return table
 
 
 def counted(rows, q, a, r, b):
@@ -28,13 +20,7 @@ def all_pairs(questions):
     return itertools.product(range(questions), "ny", range(questions), "ny")
 
 
-def state(table):
-    """All that can be asked of a table."""
-    counts = [table.count(*pair) for pair in all_pairs(table.questions)]
-    return (table.questions, table.many(), table.rows(), counts)
-
-
-class TableCase(unittest.TestCase):
+class RowsCase(TableCase):
     def assert_holds(self, table, rows):
         """That a table answers for just these rows, in whatever order they came."""
         self.assertEqual(table.many(), len(rows))
@@ -42,25 +28,12 @@ class TableCase(unittest.TestCase):
         for pair in all_pairs(table.questions):
             self.assertEqual(table.count(*pair), counted(rows, *pair), pair)
 
-    def assert_refused(self, error, table, deed, *handed):
-        """That a deed is refused with this very class and leaves the table as it was."""
-        before = state(table)
-        with self.assertRaises(error) as caught:
-            deed(*handed)
-        self.assertIs(type(caught.exception), error)
-        self.assertEqual(state(table), before)
 
-
-class TestMaking(TableCase):
+class TestMaking(RowsCase):
     def test_the_arguments_are_called_as_told(self):
-        told = {
-            "add": ["row"], "take": ["row"], "many": [], "rows": [],
-            "count": ["q", "a", "r", "b"], "twin": [],
-        }
         self.assertEqual(list(inspect.signature(Table).parameters), ["questions"])
-        for name, arguments in told.items():
-            with self.subTest(name):
-                self.assertEqual(list(inspect.signature(getattr(Table(1), name)).parameters), arguments)
+        self.assert_arguments(Table(1), {
+            "add": "row", "take": "row", "many": "", "rows": "", "count": "q a r b", "twin": ""})
 
     def test_a_new_table_has_no_rows(self):
         for questions in range(1, 13):
@@ -75,7 +48,7 @@ class TestMaking(TableCase):
                 Table(questions)
 
 
-class TestAddAndTake(TableCase):
+class TestAddAndTake(RowsCase):
     def test_both_tell_nothing(self):
         table = Table(2)
         self.assertIsNone(table.add("yn"))
@@ -142,21 +115,16 @@ class TestAddAndTake(TableCase):
         self.assert_refused(NoRow, table, table.take, "ny")
 
 
-class TestRefusals(TableCase):
-    def bad_rows(self, good):
-        wrong = [good[:at] + sign + good[at + 1:]
-                 for at in range(len(good)) for sign in ("Y", "N", "-", " ", "\n", "0", "x")]
-        return wrong + ["", good[:-1], good + "y", good + " ", " " + good, good + "\n", "y" * 400]
-
+class TestRefusals(RowsCase):
     def test_add_refuses_texts_that_are_no_rows(self):
         for table in (Table(3), filled_with(3, SOME_ROWS)):
-            for text in self.bad_rows("yyn"):
+            for text in bad_texts("yyn", stroke=False):
                 with self.subTest(text[:9]):
                     self.assert_refused(BadRow, table, table.add, text)
 
     def test_take_refuses_texts_that_are_no_rows_ahead_of_rows_that_are_not_in(self):
         for table in (Table(3), filled_with(3, SOME_ROWS)):
-            for text in self.bad_rows("yyn"):
+            for text in bad_texts("yyn", stroke=False):
                 with self.subTest(text[:9]):
                     self.assert_refused(BadRow, table, table.take, text)
 
@@ -202,7 +170,7 @@ class TestRefusals(TableCase):
         self.assert_refused(NoQuestion, table, table.count, 0, "y", 12, "y")
 
 
-class TestApart(TableCase):
+class TestApart(RowsCase):
     def test_asking_changes_nothing(self):
         table = filled_with(3, SOME_ROWS)
         first = state(table)

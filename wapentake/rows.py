@@ -1,9 +1,11 @@
 """Answers, rows, patterns and names, and how any three rows go."""
 
-from wapentake.errors import BadCount, BadRow, BadSign, NoQuestion
+from wapentake.errors import BadCount, BadPattern, BadRow, BadSign, NoQuestion
 
 MOST_QUESTIONS = 12
 LONGEST_NAME = 12
+# Rising, so that what is built sign by sign in this order comes out in the order of texts.
+SIGNS = "ny"
 
 
 def check_count(questions):
@@ -30,6 +32,12 @@ def check_row(row, questions):
         raise BadRow()
 
 
+def check_pattern(pattern, questions):
+    """Refuse a text that is no pattern of so many questions."""
+    if not is_pattern(pattern, questions):
+        raise BadPattern()
+
+
 def other(sign):
     """The other answer."""
     check_sign(sign)
@@ -39,13 +47,13 @@ def other(sign):
 def is_row(row, questions):
     """Whether a text is a row of so many questions."""
     check_count(questions)
-    return len(row) == questions and only_of(row, "ny")
+    return len(row) == questions and only_of(row, SIGNS)
 
 
 def is_pattern(pattern, questions):
     """Whether a text is a pattern of so many questions."""
     check_count(questions)
-    return len(pattern) == questions and only_of(pattern, "ny-")
+    return len(pattern) == questions and only_of(pattern, SIGNS + "-")
 
 
 def only_of(text, signs):
@@ -84,3 +92,13 @@ def differ(one, other):
 def matches(row, pattern):
     """Whether a row has the pattern's answer wherever the pattern has one."""
     return all([mark == "-" or mark == sign for sign, mark in zip(row, pattern)])
+
+
+def turned(row, questions):
+    """The row that gives the other answer to each of these questions."""
+    return "".join([other(sign) if at in questions else sign for at, sign in enumerate(row)])
+
+
+def with_answer(pattern, question, sign):
+    """The pattern that has this answer to a question, whatever it had there."""
+    return pattern[:question] + sign + pattern[question + 1:]
