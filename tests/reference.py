@@ -7,10 +7,13 @@ import random
 import time
 import unittest
 
+from wapentake.asks import deeds, folk, oaths_of, roll, row_of, swearers, sworn_by, table_of, undone
+from wapentake.assembly import Assembly
 from wapentake.table import Table
 
 FORTY = 10 ** 39
 SIXTY = 10 ** 60 - 1
+OTHER = {"y": "n", "n": "y"}
 # Signs that are no answers and no stroke.
 WRONG_SIGNS = ("Y", "N", " ", "\n", "0", "1", "a", "x", "~", "_")
 # A square of four rulings with a fifth one behind one corner; no other row comes about by threes of these.
@@ -34,8 +37,20 @@ def filled_with(questions, rows):
     return table
 
 
-def state(table):
-    """All that can be asked of a table."""
+def state(thing):
+    """All that can be asked of a table or an assembly."""
+    return facts(thing) if isinstance(thing, Assembly) else table_facts(thing)
+
+
+def facts(assembly):
+    return {"questions": assembly.questions, "folk": [(name, row_of(assembly, name)) for name in folk(assembly)],
+            "table": table_facts(table_of(assembly)),
+            "oaths": [(oath, swearers(assembly, oath[0])) for oath in oaths_of(assembly)],
+            "sworn": [(name, sworn_by(assembly, name)) for name in folk(assembly)],
+            "roll": roll(assembly), "deeds": deeds(assembly), "undone": undone(assembly)}
+
+
+def table_facts(table):
     pairs = itertools.product(range(table.questions), "ny", range(table.questions), "ny")
     return (table.questions, table.many(), table.rows(), [table.count(*pair) for pair in pairs])
 
@@ -105,6 +120,12 @@ def borne(rows, questions):
     stands = standing_pairs(rows)
     pairs = [(q, r) for q in range(questions) for r in range(q, questions)]
     return [row for row in all_rows(questions) if all((q, row[q], r, row[r]) in stands for q, r in pairs)]
+
+
+def holds(row, oath):
+    """Whether a row keeps an oath, by the words of point [16]."""
+    q, a, r, b = oath
+    return not (row[q] == a and not row[r] == b)
 
 
 def agrees(row, pattern):

@@ -1,9 +1,9 @@
 """Bundles that can be turned in whatever choice."""
 
 from wapentake.bonds import crossing, lowest_questions
-from wapentake.errors import NoBundle, Twice
+from wapentake.errors import NoBundle
 from wapentake.fills import meeting
-from wapentake.rows import SIGNS
+from wapentake.rows import SIGNS, check_untold
 
 
 def free_at(table, numbers):
@@ -25,8 +25,7 @@ def check_numbers(numbers, many):
     for at, number in enumerate(numbers):
         if number < 0 or number >= many:
             raise NoBundle()
-        if number in numbers[:at]:
-            raise Twice()
+        check_untold(number, numbers[:at])
 
 
 def pairs(numbers):

@@ -83,8 +83,13 @@ def joined(table, patterns):
 
 def gaps(table, pattern):
     """All pairs of questions, the lower first or both the same, whose answers in a pattern no row gives together."""
+    return pairs_given(table, pattern, 0)
+
+
+def pairs_given(table, pattern, many):
+    """All pairs of questions, the lower first or both the same, whose answers in a pattern just so many rows give."""
     given = answers(pattern)
-    return [(q, r) for q, a in given for r, b in given if q <= r and table.count(q, a, r, b) == 0]
+    return [(q, r) for q, a in given for r, b in given if q <= r and table.count(q, a, r, b) == many]
 
 
 def answers(pattern):

@@ -1,6 +1,6 @@
 """Answers, rows, patterns and names, and how any three rows go."""
 
-from wapentake.errors import BadCount, BadPattern, BadRow, BadSign, NoQuestion
+from wapentake.errors import BadCount, BadPattern, BadRow, BadSign, NoQuestion, Twice
 
 MOST_QUESTIONS = 12
 LONGEST_NAME = 12
@@ -24,6 +24,20 @@ def check_sign(sign):
     """Refuse a text that is no answer."""
     if sign != "y" and sign != "n":
         raise BadSign()
+
+
+def check_answers(q, a, r, b, questions):
+    """Refuse a number of the two that none of so many questions has, then a sign of the two that is no answer."""
+    check_question(q, questions)
+    check_question(r, questions)
+    check_sign(a)
+    check_sign(b)
+
+
+def check_untold(number, told):
+    """Refuse a number that is told already."""
+    if number in told:
+        raise Twice()
 
 
 def check_row(row, questions):

@@ -1,7 +1,7 @@
 """A table of rows that knows how many of them give each two answers."""
 
 from wapentake.errors import NoRow
-from wapentake.rows import check_count, check_question, check_row, check_sign
+from wapentake.rows import check_answers, check_count, check_row
 
 
 class Table:
@@ -51,10 +51,7 @@ class Table:
 
     def count(self, q, a, r, b):
         """How many rows answer a to q and b to r."""
-        check_question(q, self.questions)
-        check_question(r, self.questions)
-        check_sign(a)
-        check_sign(b)
+        check_answers(q, a, r, b, self.questions)
         return self.both.get((q, a, r, b), 0)
 
     def twin(self):
