@@ -3,7 +3,9 @@
 import itertools
 import random
 
-from reference import OTHER, all_rows, filled_with, holds, standing_pairs, table_facts
+from reference import OTHER, all_rows, facts, filled_with, holds, standing_pairs, table_facts
+from wapentake.asks import deeds, undone
+from wapentake.assembly import Assembly
 from wapentake.errors import (BadName, BadRow, BadSign, Broken, Entered, NoEntry, NoOath, NoPerson, NoQuestion,
                               NotBorne, NothingLeft, NotStanding, NotSworn, Same, Sworn, Taken, WapentakeError)
 
@@ -164,10 +166,31 @@ class Moot:
                 "roll": hall.roll, "deeds": self.deeds, "undone": self.undone}
 
 
+def met(questions, rows):
+    """An assembly to which p0, p1 and so on have come with these rows."""
+    assembly = Assembly(questions)
+    for number, row in enumerate(rows):
+        assembly.come(f"p{number}", row)
+    return assembly
+
+
 def do(assembly, deed):
     """Let an assembly do a deed that is told as a tuple."""
     word, *handed = deed
     return getattr(assembly, word)(*handed)
+
+
+def history(assembly):
+    """All that a twin can be asked for, back to the beginning and on to the end."""
+    twin = assembly.twin()
+    told = [facts(twin)]
+    while deeds(twin):
+        twin.undo()
+        told.append(facts(twin))
+    while undone(twin):
+        twin.redo()
+        told.append(facts(twin))
+    return told
 
 
 def outcome(deed, *handed):

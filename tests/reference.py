@@ -208,10 +208,11 @@ def lists_in(handed):
 
 
 def spoil(told):
-    """Change a list, and the lists in it, as far as can be."""
-    if isinstance(told, list):
+    """Change a list, and the lists in a list or a tuple, as far as can be."""
+    if isinstance(told, (list, tuple)):
         for thing in told:
             spoil(thing)
+    if isinstance(told, list):
         told.reverse()
         told.append("spoilt")
         del told[:1]

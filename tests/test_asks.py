@@ -5,7 +5,7 @@ import itertools
 import random
 import unittest
 
-from moot import Moot, do, drawn_deeds, lacks_of, outcome
+from moot import Moot, do, drawn_deeds, lacks_of, met, outcome
 from reference import (FORTY, SIXTY, TableCase, all_rows, bad_texts, borne, chain, drawn_row_lists, facts, filled_with,
                        state, wide)
 from wapentake import asks
@@ -20,14 +20,6 @@ WRONG_QUESTIONS = (3, 4, -1, -3, FORTY, -FORTY, SIXTY)
 # What each function that takes no more than the assembly tells, and what others are handed beside it.
 ALONE = (folk, oaths_of, roll, deeds, undone)
 HANDED = ((swearers, (0,)), (sworn_by, ("bo",)), (bearers, ("nnn", 0, 1)), (pillars, ("ynn",)))
-
-
-def gathered(rows, questions):
-    """An assembly of folk with these rows."""
-    assembly = Assembly(questions)
-    for number, row in enumerate(rows):
-        assembly.come(f"p{number}", row)
-    return assembly
 
 
 def busy():
@@ -204,17 +196,17 @@ class TestRefused(TableCase):
 
 class TestBearersAndPillars(TableCase):
     def test_written_examples(self):
-        assembly = gathered(["ynn", "nyn", "nny", "nnn"], 3)
+        assembly = met(3, ["ynn", "nyn", "nny", "nnn"])
         self.assertEqual(bearers(assembly, "nnn", 0, 1), ["p2", "p3"])
         self.assertEqual(bearers(assembly, "nnn", 1, 0), ["p2", "p3"])
         self.assertEqual(bearers(assembly, "yyn", 0, 1), [])
         self.assertEqual(bearers(assembly, "yyn", 2, 2), ["p0", "p1", "p3"])
         self.assertEqual(pillars(assembly, "nnn"), [])
         self.assertEqual(pillars(assembly, "ynn"), ["p0"])
-        self.assertEqual(pillars(gathered(["ynn", "nyn", "nny"], 3), "nnn"), ["p0", "p1", "p2"])
-        self.assertEqual(pillars(gathered(["ynn"], 3), "ynn"), ["p0"])
-        self.assertEqual(pillars(gathered(["y", "y"], 1), "y"), [])
-        self.assertEqual(pillars(gathered(["y", "n"], 1), "n"), ["p1"])
+        self.assertEqual(pillars(met(3, ["ynn", "nyn", "nny"]), "nnn"), ["p0", "p1", "p2"])
+        self.assertEqual(pillars(met(3, ["ynn"]), "ynn"), ["p0"])
+        self.assertEqual(pillars(met(1, ["y", "y"]), "y"), [])
+        self.assertEqual(pillars(met(1, ["y", "n"]), "n"), ["p1"])
 
     def test_the_order_is_the_order_of_coming(self):
         assembly = Assembly(2)
@@ -233,7 +225,7 @@ class TestBearersAndPillars(TableCase):
     def test_drawn_assemblies(self):
         for questions in (1, 2, 4, 6):
             for rows in drawn_row_lists(questions, 12, 7, seed=820 + questions):
-                assembly = gathered(rows, questions)
+                assembly = met(questions, rows)
                 for row in borne(rows, questions):
                     told = [f"p{at}" for at in range(len(rows)) if lacks_of(rows[:at] + rows[at + 1:], row)]
                     self.assertEqual(pillars(assembly, row), told)
@@ -243,7 +235,7 @@ class TestBearersAndPillars(TableCase):
 
     def test_a_hundred_folk_are_answered_soon(self):
         rows = (wide(12) + chain(12)) * 5
-        assembly = gathered(rows[:100], 12)
+        assembly = met(12, rows[:100])
         for row in rows[:23]:
             told = self.assert_soon(pillars, assembly, row)
             self.assertEqual(told, [])
@@ -288,7 +280,7 @@ class TestNarrowing(TableCase):
         self.assert_narrowed(Assembly(3), [2, 1, 0])
 
     def test_oaths_and_their_refusals_stay_behind(self):
-        assembly = gathered(["yy", "nn"], 2)
+        assembly = met(2, ["yy", "nn"])
         assembly.swear("p0", 0, "y", 1, "y")
         told = narrowed(assembly, [0, 1])
         told.come("p2", "yn")
@@ -328,13 +320,13 @@ class TestNarrowing(TableCase):
         self.assert_refused(Twice, assembly, narrowed, assembly, [0, 1, 2] * 66)
 
     def test_more_questions_than_twelve_are_no_bad_count(self):
-        assembly = gathered(["y" * 12], 12)
+        assembly = met(12, ["y" * 12])
         self.assert_refused(Twice, assembly, narrowed, assembly, list(range(12)) + [0])
         self.assert_refused(NoQuestion, assembly, narrowed, assembly, list(range(13)))
         self.assert_refused(NoQuestion, assembly, narrowed, assembly, list(range(200)))
 
     def test_a_hundred_folk_are_narrowed_soon(self):
-        assembly = gathered(((wide(12) + chain(12)) * 5)[:100], 12)
+        assembly = met(12, ((wide(12) + chain(12)) * 5)[:100])
         order = list(range(12))
         random.Random(860).shuffle(order)
         told = self.assert_soon(narrowed, assembly, order)

@@ -4,7 +4,7 @@ import itertools
 import random
 import unittest
 
-from moot import NAMES, WRONG_NAMES, Moot, do, drawn_deeds, outcome
+from moot import NAMES, WRONG_NAMES, Moot, do, drawn_deeds, history, outcome
 from reference import (FORTY, OTHER, SIXTY, WRONG_SIGNS, TableCase, all_rows, bad_texts, chain, facts, holds,
                        wide)
 from wapentake.asks import deeds, folk, oaths_of, roll, row_of, swearers, sworn_by, table_of, undone
@@ -16,7 +16,7 @@ from wapentake.fills import lacks, rulings
 WRONG_NUMBERS = (-1, -2, FORTY, -FORTY, SIXTY, -SIXTY)
 
 
-def met(questions, **rows):
+def with_folk(questions, **rows):
     """An assembly to which these have come."""
     assembly = Assembly(questions)
     for name, row in rows.items():
@@ -24,22 +24,9 @@ def met(questions, **rows):
     return assembly
 
 
-def history(assembly):
-    """All that a twin can be asked for, back to the beginning and on to the end."""
-    twin = assembly.twin()
-    told = [facts(twin)]
-    while deeds(twin):
-        twin.undo()
-        told.append(facts(twin))
-    while undone(twin):
-        twin.redo()
-        told.append(facts(twin))
-    return told
-
-
 def full(step_back=True):
     """An assembly in which each kind of deed stands, and one that was undone waits."""
-    assembly = met(3, ada="yyn", bo="nyn", cy="ynn")
+    assembly = with_folk(3, ada="yyn", bo="nyn", cy="ynn")
     assembly.swear("ada", 0, "n", 1, "y")
     assembly.swear("bo", 2, "y", 0, "y")
     assembly.swear("cy", 1, "n", 0, "y")
@@ -108,7 +95,7 @@ class TestInterface(AssemblyCase):
         self.assertEqual(assembly.redo(), ("come", "bo", "nn"))
 
     def test_what_a_deed_tells_is_the_askers_own(self):
-        assembly = met(1, ada="y", bo="n")
+        assembly = with_folk(1, ada="y", bo="n")
         assembly.enter("y")
         fell = assembly.leave("ada")
         self.assertEqual(fell, [0])
@@ -123,7 +110,7 @@ class TestInterface(AssemblyCase):
 
 class TestComing(AssemblyCase):
     def test_folk_in_the_order_of_their_coming(self):
-        assembly = met(2, zed="yn", ada="yn", m="ny")
+        assembly = with_folk(2, zed="yn", ada="yn", m="ny")
         self.assertEqual(folk(assembly), ["zed", "ada", "m"])
         self.assertEqual([row_of(assembly, name) for name in folk(assembly)], ["yn", "yn", "ny"])
         self.assertEqual(table_of(assembly).rows(), ["ny", "yn", "yn"])
@@ -150,7 +137,7 @@ class TestComing(AssemblyCase):
             self.refused(BadRow, assembly, "come", "ed", row)
 
     def test_broken(self):
-        assembly = met(3, ada="yyn")
+        assembly = with_folk(3, ada="yyn")
         assembly.swear("ada", 0, "y", 1, "y")
         assembly.swear("ada", 2, "y", 2, "n")
         for row in all_rows(3):
@@ -162,7 +149,7 @@ class TestComing(AssemblyCase):
                 self.assertEqual(row_of(twin, "bo"), row)
 
     def test_the_refusal_told_first(self):
-        assembly = met(2, ada="yy")
+        assembly = with_folk(2, ada="yy")
         assembly.swear("ada", 0, "y", 1, "y")
         self.refused(BadName, assembly, "come", "Ada", "maybe")
         self.refused(BadName, assembly, "come", "", "yn")
@@ -174,7 +161,7 @@ class TestComing(AssemblyCase):
 
 class TestLeaving(AssemblyCase):
     def test_a_name_that_left_may_come_again_behind_all_others(self):
-        assembly = met(1, ada="y", bo="n", cy="y")
+        assembly = with_folk(1, ada="y", bo="n", cy="y")
         assembly.leave("ada")
         self.assertEqual(folk(assembly), ["bo", "cy"])
         assembly.come("ada", "n")
@@ -191,14 +178,14 @@ class TestLeaving(AssemblyCase):
         self.refused(NoPerson, Assembly(1), "leave", "ada")
 
     def test_the_last_one_may_leave(self):
-        assembly = met(2, ada="yn")
+        assembly = with_folk(2, ada="yn")
         assembly.enter("yn")
         self.assertEqual(assembly.leave("ada"), [0])
         self.assertEqual((folk(assembly), table_of(assembly).many()), ([], 0))
         self.assertEqual(roll(assembly), [(0, "yn", "fallen", (0, 0))])
 
     def test_whoever_leaves_takes_back_all_oaths(self):
-        assembly = met(2, ada="yy", bo="yy")
+        assembly = with_folk(2, ada="yy", bo="yy")
         assembly.swear("ada", 0, "y", 1, "y")
         assembly.swear("bo", 0, "y", 1, "y")
         assembly.swear("ada", 1, "n", 1, "y")
@@ -215,7 +202,7 @@ class TestLeaving(AssemblyCase):
 
 class TestTurning(AssemblyCase):
     def test_one_answer_is_turned_and_the_order_stays(self):
-        assembly = met(3, ada="yyn", bo="nnn")
+        assembly = with_folk(3, ada="yyn", bo="nnn")
         self.assertEqual(assembly.turn("ada", 1, "n"), [])
         self.assertEqual(assembly.turn("ada", 2, "y"), [])
         self.assertEqual((folk(assembly), row_of(assembly, "ada")), (["ada", "bo"], "yny"))
@@ -233,7 +220,7 @@ class TestTurning(AssemblyCase):
             self.refused(Same, assembly, "turn", "ada", question, sign)
 
     def test_broken(self):
-        assembly = met(2, ada="yy", bo="nn")
+        assembly = with_folk(2, ada="yy", bo="nn")
         assembly.swear("bo", 0, "y", 1, "y")
         self.refused(Broken, assembly, "turn", "ada", 1, "n")
         self.refused(Broken, assembly, "turn", "bo", 0, "y")
@@ -242,7 +229,7 @@ class TestTurning(AssemblyCase):
         self.assertEqual([row_of(assembly, name) for name in ("ada", "bo")], ["ny", "ny"])
 
     def test_the_refusal_told_first(self):
-        assembly = met(2, ada="yy")
+        assembly = with_folk(2, ada="yy")
         assembly.swear("ada", 0, "y", 1, "y")
         self.refused(NoPerson, assembly, "turn", "bo", 2, "x")
         self.refused(NoQuestion, assembly, "turn", "ada", 2, "x")
@@ -253,7 +240,7 @@ class TestTurning(AssemblyCase):
 
 class TestSwearing(AssemblyCase):
     def test_numbers_and_forms(self):
-        assembly = met(3, ada="yyn", bo="nyn")
+        assembly = with_folk(3, ada="yyn", bo="nyn")
         self.assertEqual(assembly.swear("ada", 0, "y", 1, "y"), 0)
         self.assertEqual(assembly.swear("ada", 2, "y", 0, "n"), 1)
         self.assertEqual(assembly.swear("bo", 2, "y", 2, "n"), 2)
@@ -262,7 +249,7 @@ class TestSwearing(AssemblyCase):
         self.assertEqual(sworn_by(assembly, "bo"), [2])
 
     def test_joining_in_either_form(self):
-        assembly = met(2, ada="yy", bo="nn", cy="ny")
+        assembly = with_folk(2, ada="yy", bo="nn", cy="ny")
         self.assertEqual(assembly.swear("bo", 0, "y", 1, "y"), 0)
         self.assertEqual(assembly.swear("ada", 1, "n", 0, "n"), 0)
         self.assertEqual(assembly.swear("cy", 0, "y", 1, "y"), 0)
@@ -270,7 +257,7 @@ class TestSwearing(AssemblyCase):
         self.assertEqual(swearers(assembly, 0), ["bo", "ada", "cy"])
 
     def test_the_form_stays_the_first_one_when_its_swearer_takes_it_back(self):
-        assembly = met(2, ada="yy", bo="nn")
+        assembly = with_folk(2, ada="yy", bo="nn")
         assembly.swear("ada", 1, "n", 0, "n")
         assembly.swear("bo", 0, "y", 1, "y")
         assembly.recant("ada", 0)
@@ -281,7 +268,7 @@ class TestSwearing(AssemblyCase):
     def test_each_oath_has_just_its_other_side_for_the_same(self):
         every = list(itertools.product(range(2), "ny", range(2), "ny"))
         for row, one, two in itertools.product(all_rows(2), every, every):
-            assembly = met(2, ada=row, bo=row)
+            assembly = with_folk(2, ada=row, bo=row)
             if holds(row, one) and holds(row, two):
                 q, a, r, b = two
                 same = one in (two, (r, OTHER[b], q, OTHER[a]))
@@ -290,7 +277,7 @@ class TestSwearing(AssemblyCase):
                 self.assertEqual(len(oaths_of(assembly)), 1 if same else 2)
 
     def test_an_oath_of_one_question_and_itself(self):
-        assembly = met(1, ada="y", bo="n")
+        assembly = with_folk(1, ada="y", bo="n")
         self.assertEqual(assembly.swear("ada", 0, "y", 0, "y"), 0)
         self.refused(Sworn, assembly, "swear", "ada", 0, "n", 0, "n")
         self.assertEqual(assembly.swear("bo", 0, "n", 0, "n"), 0)
@@ -311,7 +298,7 @@ class TestSwearing(AssemblyCase):
             self.refused(BadSign, assembly, "swear", "ada", 0, "y", 0, sign)
 
     def test_broken_by_anybody_there(self):
-        assembly = met(2, ada="yy", bo="yn", cy="ny")
+        assembly = with_folk(2, ada="yy", bo="yn", cy="ny")
         self.refused(Broken, assembly, "swear", "ada", 0, "y", 1, "y")
         self.refused(Broken, assembly, "swear", "bo", 0, "y", 1, "y")
         self.refused(Broken, assembly, "swear", "cy", 0, "y", 1, "y")
@@ -319,7 +306,7 @@ class TestSwearing(AssemblyCase):
         self.assertEqual(assembly.swear("ada", 0, "y", 1, "y"), 0)
 
     def test_the_refusal_told_first(self):
-        assembly = met(2, ada="yy")
+        assembly = with_folk(2, ada="yy")
         assembly.swear("ada", 0, "y", 1, "y")
         self.refused(NoPerson, assembly, "swear", "bo", 2, "x", 2, "x")
         self.refused(NoQuestion, assembly, "swear", "ada", 0, "x", 2, "y")
@@ -332,7 +319,7 @@ class TestSwearing(AssemblyCase):
 
 class TestTakingBack(AssemblyCase):
     def test_an_oath_goes_with_the_last_who_swore_it(self):
-        assembly = met(2, ada="yy", bo="yy")
+        assembly = with_folk(2, ada="yy", bo="yy")
         assembly.swear("ada", 0, "y", 1, "y")
         assembly.swear("bo", 0, "y", 1, "y")
         assembly.recant("ada", 0)
@@ -345,7 +332,7 @@ class TestTakingBack(AssemblyCase):
         self.assertEqual(row_of(assembly, "ada"), "yn")
 
     def test_a_number_does_not_come_again(self):
-        assembly = met(2, ada="yy", bo="yy")
+        assembly = with_folk(2, ada="yy", bo="yy")
         self.assertEqual(assembly.swear("ada", 0, "y", 1, "y"), 0)
         assembly.recant("ada", 0)
         self.assertEqual(assembly.swear("ada", 0, "y", 1, "y"), 1)
@@ -367,7 +354,7 @@ class TestTakingBack(AssemblyCase):
         self.refused(NotSworn, assembly, "recant", "ada", 1)
 
     def test_the_refusal_told_first(self):
-        assembly = met(2, ada="yy", bo="yy")
+        assembly = with_folk(2, ada="yy", bo="yy")
         assembly.swear("ada", 0, "y", 1, "y")
         self.refused(NoPerson, assembly, "recant", "cy", 7)
         self.refused(NoOath, assembly, "recant", "bo", 7)
@@ -385,13 +372,13 @@ class TestTakingBack(AssemblyCase):
 
 class TestTheRoll(AssemblyCase):
     def test_any_ruling_is_entered(self):
-        assembly = met(3, ada="ynn", bo="nyn", cy="nny")
+        assembly = with_folk(3, ada="ynn", bo="nyn", cy="nny")
         self.assertEqual([assembly.enter(row) for row in ("nnn", "nny", "ynn")], [0, 1, 2])
         self.assertEqual(roll(assembly), [(0, "nnn", "standing", None), (1, "nny", "standing", None),
                                           (2, "ynn", "standing", None)])
 
     def test_refusals(self):
-        assembly = met(3, ada="ynn", bo="nyn", cy="nny")
+        assembly = with_folk(3, ada="ynn", bo="nyn", cy="nny")
         assembly.enter("nnn")
         for row in bad_texts("nnn", stroke=False):
             self.refused(BadRow, assembly, "enter", row)
@@ -407,7 +394,7 @@ class TestTheRoll(AssemblyCase):
         self.refused(NoEntry, Assembly(1), "strike", 0)
 
     def test_a_struck_one_stays_struck_and_its_row_may_be_entered_anew(self):
-        assembly = met(1, ada="y")
+        assembly = with_folk(1, ada="y")
         assembly.enter("y")
         assembly.strike(0)
         self.assertEqual(roll(assembly), [(0, "y", "struck", None)])
@@ -417,7 +404,7 @@ class TestTheRoll(AssemblyCase):
         self.assertEqual(roll(assembly), [(0, "y", "struck", None), (1, "y", "fallen", (0, 0))])
 
     def test_entries_fall_by_a_leaving_with_their_lowest_lack(self):
-        assembly = met(3, ada="ynn", bo="nyn", cy="nny")
+        assembly = with_folk(3, ada="ynn", bo="nyn", cy="nny")
         for row in ("nnn", "nny", "ynn", "nyn"):
             assembly.enter(row)
         self.assertEqual(assembly.leave("cy"), [0, 1])
@@ -425,7 +412,7 @@ class TestTheRoll(AssemblyCase):
                                           (2, "ynn", "standing", None), (3, "nyn", "standing", None)])
 
     def test_entries_fall_by_a_turning_with_their_lowest_lack(self):
-        assembly = met(3, ada="ynn", bo="nyn", cy="nny")
+        assembly = with_folk(3, ada="ynn", bo="nyn", cy="nny")
         for row in ("nnn", "nny", "ynn", "nyn"):
             assembly.enter(row)
         self.assertEqual(assembly.turn("cy", 2, "n"), [1])
@@ -436,7 +423,7 @@ class TestTheRoll(AssemblyCase):
         self.assertEqual(roll(assembly)[0], (0, "nnn", "fallen", (0, 1)))
 
     def test_a_fallen_one_stays_fallen_and_its_row_may_be_entered_anew(self):
-        assembly = met(2, ada="yn", bo="nn")
+        assembly = with_folk(2, ada="yn", bo="nn")
         assembly.enter("yn")
         self.assertEqual(assembly.turn("ada", 0, "n"), [0])
         self.refused(NotStanding, assembly, "strike", 0)
@@ -449,7 +436,7 @@ class TestTheRoll(AssemblyCase):
         self.assertEqual(roll(assembly), [(0, "yn", "fallen", (0, 0)), (1, "yn", "fallen", (0, 0))])
 
     def test_a_fallen_one_keeps_the_lack_that_it_fell_with(self):
-        assembly = met(2, ada="yy", bo="yn", cy="ny")
+        assembly = with_folk(2, ada="yy", bo="yn", cy="ny")
         assembly.enter("yy")
         self.assertEqual(assembly.turn("ada", 0, "n"), [0])
         self.assertEqual(roll(assembly), [(0, "yy", "fallen", (0, 1))])
@@ -457,7 +444,7 @@ class TestTheRoll(AssemblyCase):
         self.assertEqual(roll(assembly), [(0, "yy", "fallen", (0, 1))])
 
     def test_nothing_falls_while_another_bears_it(self):
-        assembly = met(2, ada="yn", bo="yn")
+        assembly = with_folk(2, ada="yn", bo="yn")
         assembly.enter("yn")
         self.assertEqual(assembly.leave("ada"), [])
         self.assertEqual(assembly.turn("bo", 1, "y"), [0])
@@ -534,7 +521,7 @@ class TestUndoing(AssemblyCase):
         self.assertEqual(assembly.redo(), ("come", "bo", "nyn"))
 
     def test_an_undone_leaving_brings_back_place_oaths_and_entries(self):
-        assembly = met(2, ada="yn", bo="nn", cy="nn")
+        assembly = with_folk(2, ada="yn", bo="nn", cy="nn")
         assembly.swear("bo", 0, "y", 1, "n")
         assembly.swear("ada", 0, "y", 1, "n")
         assembly.swear("ada", 1, "n", 1, "n")
@@ -546,7 +533,7 @@ class TestUndoing(AssemblyCase):
         self.assertEqual((folk(assembly), swearers(assembly, 0)), (["ada", "bo", "cy"], ["bo", "ada"]))
 
     def test_an_undone_swearing_gives_its_number_back(self):
-        assembly = met(1, ada="y")
+        assembly = with_folk(1, ada="y")
         self.assertEqual(assembly.swear("ada", 0, "n", 0, "y"), 0)
         assembly.undo()
         self.assertEqual(assembly.swear("ada", 0, "y", 0, "y"), 0)
@@ -555,7 +542,7 @@ class TestUndoing(AssemblyCase):
         self.assertEqual(assembly.swear("ada", 0, "n", 0, "y"), 1)
 
     def test_an_undone_entering_gives_its_number_back(self):
-        assembly = met(1, ada="y", bo="n")
+        assembly = with_folk(1, ada="y", bo="n")
         self.assertEqual(assembly.enter("y"), 0)
         assembly.undo()
         self.assertEqual(assembly.enter("n"), 0)
