@@ -191,8 +191,7 @@ class TestKeeping(OathCase):
     def test_against_all_rows(self):
         for questions, sworn in LISTS:
             kept = keepers(questions, sworn)
-            patterns = all_patterns(questions)
-            for pattern in patterns if questions < 4 else patterns[::7]:
+            for pattern in all_patterns(questions):
                 fit = [row for row in kept if agrees(row, pattern)]
                 told = keeping(questions, sworn, pattern)
                 if fit:
@@ -251,11 +250,9 @@ class TestFollows(OathCase):
 
     def test_against_all_rows(self):
         for questions, sworn in LISTS:
-            pairs = list(itertools.product(answers(questions), repeat=2))
-            if not keepers(questions, sworn):
-                pairs = []
-            for one, two in pairs if questions < 4 else pairs[::3]:
-                self.assert_follows(follows(questions, sworn, *one, *two), questions, sworn, one, two)
+            if keepers(questions, sworn):
+                for one, two in itertools.product(answers(questions), repeat=2):
+                    self.assert_follows(follows(questions, sworn, *one, *two), questions, sworn, one, two)
 
     def test_all_kinds_came_up_above(self):
         kinds = set()
